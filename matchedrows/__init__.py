@@ -1,0 +1,1 @@
+"""Rows of two tables matched at least cost; matchedrows.twotables answers the calls."""
