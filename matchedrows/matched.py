@@ -1,7 +1,8 @@
 """Two tables with their columns matched, and what follows for their rows."""
 
-from matchedrows.columns import columns_cost, lone_columns
+from matchedrows.columns import columns_cost
 from matchedrows.least import LeastMatchings, matching_cost
+from matchedrows.pairs import lone_numbers
 from matchedrows.table import is_empty
 
 
@@ -21,8 +22,8 @@ class MatchedTables:
 
 
 def all_pair_costs(old, new, columns):
-    old_lone = filled_counts(old, lone_columns([pair[0] for pair in columns], len(old.names)))
-    new_lone = filled_counts(new, lone_columns([pair[1] for pair in columns], len(new.names)))
+    old_lone = filled_counts(old, lone_numbers([pair[0] for pair in columns], len(old.names)))
+    new_lone = filled_counts(new, lone_numbers([pair[1] for pair in columns], len(new.names)))
     costs = []
     for place, row in enumerate(old.rows):
         unlike = [unlike_count(row, other, columns) for other in new.rows]

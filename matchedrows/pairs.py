@@ -1,6 +1,7 @@
-"""Pairs of columns and of rows, as they are handed over and told."""
+"""Pairs of columns and of rows, as they are handed over and told, and what is in none."""
 
 from matchedrows.refusals import NotColumnPairs, NotRowPairs
+from matchedrows.rising import rises
 
 
 def read_column_pairs(numbers, old_count, new_count):
@@ -40,20 +41,12 @@ def is_there(number, count):
     return 0 <= number < count
 
 
-def rises(numbers):
-    for place in range(1, len(numbers)):
-        if numbers[place - 1] >= numbers[place]:
-            return False
-    return True
+def lone_numbers(taken, count):
+    return [number for number in range(count) if number not in taken]
 
 
-def longest_rising(numbers):
-    # lengths[k]: how long a longest rising part is that ends with the k-th number
-    lengths = []
-    for place, number in enumerate(numbers):
-        ahead = [lengths[k] for k in range(place) if numbers[k] < number]
-        lengths.append(1 + max(ahead, default=0))
-    return max(lengths, default=0)
+def turned(pairs):
+    return [(new, old) for old, new in pairs]
 
 
 def told_pairs(pairs):

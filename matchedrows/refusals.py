@@ -19,3 +19,11 @@ class NotRowPairs(Exception):
 
 class NotThere(Exception):
     pass
+
+
+class NotKeys(Exception):
+    pass
+
+
+class TooManyRows(Exception):
+    pass

@@ -1,9 +1,14 @@
 """The calls on one object that holds two tables, and their answers."""
 
 from matchedrows.columns import same_name_pairs
+from matchedrows.free import FreeMatchings
+from matchedrows.keyed import pairs_by_keys, read_keys
 from matchedrows.matched import MatchedTables
 from matchedrows.pairs import is_there, read_column_pairs, read_row_pairs, told_pairs
-from matchedrows.refusals import NoTables, NotColumnPairs, NotRowPairs, NotTable, NotThere
+from matchedrows.patch import told_patch
+from matchedrows.refusals import NoTables, NotColumnPairs, NotKeys, NotRowPairs, NotTable, NotThere, TooManyRows
+from matchedrows.rising import first_longest_part, out_of_order
+from matchedrows.surely import maybe_pairs, surely_pairs
 from matchedrows.table import read_table
 
 
@@ -68,11 +73,51 @@ def answer_pair(both, handed):
     return [matched.pair_costs[old][new]]
 
 
+def answer_surely(both, handed):
+    return told_pairs(surely_pairs(both.matched().least))
+
+
+def answer_maybe(both, handed):
+    return told_pairs(maybe_pairs(both.matched().least))
+
+
+def answer_free(both, handed):
+    matched = both.matched()
+    free = FreeMatchings(matched.pair_costs, len(matched.old.rows), len(matched.new.rows))
+    pairs = free.first_least()
+    return [free.least_cost(), out_of_order([new for old, new in pairs])] + told_pairs(pairs)
+
+
+def answer_keyed(both, handed):
+    matched = both.matched()
+    keys = read_keys(handed[0], matched.columns)
+    pairs = pairs_by_keys(matched.old.rows, matched.new.rows, keys)
+    part = first_longest_part(pairs)
+    return told_pairs(pairs) + [len(pairs) - len(part), matched.cost_of_rows(part)] + told_pairs(part)
+
+
+def answer_patch(both, handed):
+    matched = both.matched()
+    cost = matched.cost_of_columns() + matched.least.least_cost()
+    first = matched.least.at_place(0)
+    return [cost] + told_patch(matched.old, matched.new, matched.columns, first)
+
+
+def answer_rank(both, handed):
+    matched = both.matched()
+    pairs = read_row_pairs(handed[0], len(matched.old.rows), len(matched.new.rows))
+    if matched.cost_of_rows(pairs) > matched.least.least_cost():
+        return [0]
+    return [1, matched.least.place_of(pairs)]
+
+
 # By the calls' numbers: what answers them, and how many whole numbers and
 # how many lists are handed to each.
-ANSWERERS = (answer_tables, answer_cols, answer_least, answer_kth, answer_cost, answer_pair)
-NUMBER_COUNTS = (0, 0, 0, 1, 0, 2)
-LIST_COUNTS = (2, 1, 0, 0, 1, 0)
+ANSWERERS = (
+    answer_tables, answer_cols, answer_least, answer_kth, answer_cost, answer_pair,
+    answer_surely, answer_maybe, answer_free, answer_keyed, answer_patch, answer_rank)
+NUMBER_COUNTS = (0, 0, 0, 1, 0, 2, 0, 0, 0, 0, 0, 0)
+LIST_COUNTS = (2, 1, 0, 0, 1, 0, 0, 0, 0, 1, 0, 1)
 
 
 def answer_or_refusal(both, call, handed):
@@ -82,10 +127,14 @@ def answer_or_refusal(both, call, handed):
         return [-1]
     except NotColumnPairs:
         return [-2]
+    except NotKeys:
+        return [-2]
     except NotRowPairs:
         return [-3]
     except NotThere:
         return [-4]
+    except TooManyRows:
+        return [-6]
     except NoTables:
         return [-8]
 

@@ -3,7 +3,7 @@
 import itertools
 import unittest
 
-from helper import LIMIT, ask, changed_in_each_place, flat, table
+from helper import LIMIT, ask, changed_in_each_place, flat, longest_rising, table
 
 FOUR = table(["a", "b", "c", "d"], [])
 FIVE = table(["a", "b", "c", "d", "e"], [])
@@ -11,15 +11,6 @@ FIVE = table(["a", "b", "c", "d", "e"], [])
 
 def cols_answer(old, new, numbers):
     return ask(("tables", old, new), ("cols", numbers))[1]
-
-
-def longest_rising(numbers):
-    """By trying every part."""
-    for length in range(len(numbers), 0, -1):
-        for part in itertools.combinations(numbers, length):
-            if list(part) == sorted(part):
-                return length
-    return 0
 
 
 def all_column_pairs(old_count, new_count):

@@ -1,67 +1,12 @@
-"""The calls least, kth, cost and pair, held against trying every matching."""
+"""The calls least, kth, cost and pair, held against trying every matching, and what is no pairs of rows."""
 
 import itertools
 import random
 import unittest
 
-from helper import LIMIT, ask, changed_in_each_place, flat, line, table, told
-
-NAMES = ["a", "b", "c", "d", "e"]
-VALUES = [None, None, 0, 1, "0", "w"]
-
-
-def all_matchings(old_count, new_count):
-    """In their order: the lesser pair first, and one with a pair ahead of one with none left."""
-    found = []
-    for length in range(min(old_count, new_count) + 1):
-        for olds in itertools.combinations(range(old_count), length):
-            for news in itertools.combinations(range(new_count), length):
-                found.append(list(zip(olds, news)))
-    behind_all = (old_count, new_count)
-    return sorted(found, key=lambda pairs: pairs + [behind_all])
-
-
-def pair_cost(old_row, new_row, columns):
-    cost = sum(1 for old, new in columns if old_row[old] != new_row[new])
-    for place, row in ((0, old_row), (1, new_row)):
-        taken = [pair[place] for pair in columns]
-        cost += sum(1 for column, value in enumerate(row) if column not in taken and value is not None)
-    return cost
-
-
-def matching_cost(old_rows, new_rows, columns, pairs):
-    cost = 3 * (len(old_rows) + len(new_rows) - 2 * len(pairs))
-    return cost + sum(pair_cost(old_rows[old], new_rows[new], columns) for old, new in pairs)
-
-
-def some_rows(chance, row_count, column_count):
-    return [[chance.choice(VALUES) for column in range(column_count)] for row in range(row_count)]
-
-
-def some_columns(chance, old_count, new_count):
-    length = chance.randint(0, min(old_count, new_count))
-    olds = chance.sample(range(old_count), length)
-    return list(zip(olds, sorted(chance.sample(range(new_count), length))))
-
-
-def some_case(chance, most_rows):
-    old_columns = chance.randint(1, 5)
-    new_columns = chance.randint(1, 5)
-    old_rows = some_rows(chance, chance.randint(0, most_rows), old_columns)
-    new_rows = some_rows(chance, chance.randint(0, most_rows), new_columns)
-    columns = some_columns(chance, old_columns, new_columns)
-    calls = [
-        ("tables", table(NAMES[:old_columns], old_rows), table(NAMES[:new_columns], new_rows)),
-        ("cols", flat(columns))]
-    return old_rows, new_rows, columns, calls
-
-
-def weighed_case(chance, most_rows):
-    """The calls that set a case up, all its matchings, and what each of them costs."""
-    old_rows, new_rows, columns, calls = some_case(chance, most_rows)
-    matchings = all_matchings(len(old_rows), len(new_rows))
-    costs = [matching_cost(old_rows, new_rows, columns, pairs) for pairs in matchings]
-    return calls, matchings, costs
+from helper import (
+    LIMIT, NAMES, ask, changed_in_each_place, flat, least_ones, line, pair_cost, some_case, table, told,
+    weighed_case)
 
 
 class AgainstTryingAll(unittest.TestCase):
@@ -69,7 +14,7 @@ class AgainstTryingAll(unittest.TestCase):
         chance = random.Random(1)
         for k in range(150):
             calls, matchings, costs = weighed_case(chance, 5)
-            least = [pairs for pairs, cost in zip(matchings, costs) if cost == min(costs)]
+            least = least_ones(matchings, costs)
             first = ask(*calls, ("least",))[2]
             self.assertEqual(first, [min(costs), len(least)] + told(least[0]))
             places = sorted(set(list(range(min(36, len(least)))) + [len(least) - 1]))
@@ -218,31 +163,31 @@ class WrongRows(unittest.TestCase):
     OLD = table(["k"], [[1], [2], [3], [4]])
     NEW = table(["k"], [[1], [2], [3]])
 
-    def assert_cost_refused(self, numbers):
-        found = ask(("tables", self.OLD, self.NEW), ("cost", numbers), ("least",))
-        self.assertEqual(found[1:], [[-3], [3, 1, 3, 0, 0, 1, 1, 2, 2]], numbers)
+    def assert_refused(self, numbers):
+        found = ask(("tables", self.OLD, self.NEW), ("cost", numbers), ("rank", numbers), ("least",))
+        self.assertEqual(found[1:], [[-3], [-3], [3, 1, 3, 0, 0, 1, 1, 2, 2]], numbers)
 
     def test_pairs_that_are_not_whole(self):
         for numbers in ([0], [0, 0, 1], [0, 0, 1, 1, 2], [0] * 29):
-            self.assert_cost_refused(numbers)
+            self.assert_refused(numbers)
 
     def test_pairs_that_do_not_rise(self):
         for pairs in ([(0, 0), (0, 1)], [(0, 0), (1, 0)], [(1, 0), (0, 1)], [(0, 1), (1, 0)],
                       [(0, 0), (1, 2), (2, 1)], [(0, 0), (2, 1), (1, 2)], [(1, 1), (1, 1)]):
-            self.assert_cost_refused(flat(pairs))
+            self.assert_refused(flat(pairs))
 
     def test_rows_that_are_not_there(self):
         for pairs in ([(4, 0)], [(0, 3)], [(-1, 0)], [(0, -1)], [(0, 0), (4, 1)], [(0, 0), (1, 3)]):
-            self.assert_cost_refused(flat(pairs))
+            self.assert_refused(flat(pairs))
 
     def test_far_out_in_each_place(self):
         whole = flat([(0, 0), (2, 1), (3, 2)])
         for numbers in changed_in_each_place(whole, (LIMIT, -LIMIT)):
-            self.assert_cost_refused(numbers)
+            self.assert_refused(numbers)
 
     def test_lists_at_their_longest(self):
-        self.assert_cost_refused([0] * 30)
-        self.assert_cost_refused(flat([(k, k) for k in range(15)]))
+        self.assert_refused([0] * 30)
+        self.assert_refused(flat([(k, k) for k in range(15)]))
 
     def test_pair_of_rows_that_are_not_there(self):
         wrong = [(4, 0), (0, 3), (-1, 0), (0, -1), (LIMIT, 0), (0, LIMIT), (-LIMIT, 0), (0, -LIMIT), (4, 3)]
